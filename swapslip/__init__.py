@@ -1,0 +1,1 @@
+"""Swapslip: frames led by slips that mean something at one house alone."""
