@@ -40,3 +40,8 @@ class Numbers:
 
     def has(self, number):
         return self.low <= number <= self.high
+
+    def twin(self):
+        new = Numbers(self.low, self.high)
+        new.held = dict(self.held)
+        return new

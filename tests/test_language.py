@@ -154,12 +154,38 @@ def own_attributes(trees):
     }
 
 
+def read_attributes(tree):
+    """All attributes that are read, but not those that are called at once."""
+    called = {id(node.func) for node in ast.walk(tree) if isinstance(node, ast.Call)}
+    return {
+        node.attr
+        for node in ast.walk(tree)
+        if isinstance(node, ast.Attribute) and isinstance(node.ctx, ast.Load) and id(node) not in called
+    }
+
+
+def builtin_names():
+    """The names that builtin values have; beside each sort of own name stand those that it may have in spite of it."""
+    names = {name for kind in (str, int, list, dict, set, bytes) for name in dir(kind) if not name.startswith("_")}
+    return names - set(METHODS[:METHODS.index("title")]), names - set("count index title find get join lower upper "
+                                                                      "split strip copy add".split())
+
+
+def name_sort_faults(own, attributes):
+    bad_methods, bad_attributes = builtin_names()
+    if own & attributes:
+        yield "L18"
+    if own & bad_methods or attributes & (bad_attributes | {"args"}):
+        yield "L26"
+
+
 def faults(files):
     """Pairs of a file and the rule that it breaks."""
     trees = {name: ast.parse(text) for name, text in files.items()}
-    own = own_methods(trees.values())
+    own, attributes = own_methods(trees.values()), own_attributes(trees.values())
     methods = own | set(METHODS)
-    told = [("package", "L18") for name in own & own_attributes(trees.values())]
+    told = [("package", rule) for rule in name_sort_faults(own, attributes)]
+    told += [(name, "L18") for name, tree in trees.items() if read_attributes(tree) - attributes]
     for name, tree in trees.items():
         rules = list(text_faults(files[name])) + list(import_faults(tree, files))
         rules += list(name_faults(tree)) + list(body_faults(tree.body))
@@ -202,6 +228,9 @@ class TheLanguage(unittest.TestCase):
             "X = '\u00e9'\n": "L14",
             "def f(x):\n    raise x\n": "L19",
             "class A:\n    def f(self):\n        self.f = 1\n": "L18",
+            "def f(x):\n    return x.gone\n": "L18",
+            "class A:\n    def __init__(self):\n        self.items = 1\n": "L26",
+            "class A:\n    def decode(self):\n        return 1\n": "L26",
             "def f(x):\n" + "    x += 1\n" * 40: "L10 function",
             "X = 1\n" * 401: "L10 file",
             "X = " + "1" * 120 + "\n": "L10 line",

@@ -161,6 +161,16 @@ class Several(RangeTest):
         self.assertEqual(numbers.take(), 2)
         self.assertEqual(told, [9, 2])
 
+    def test_a_twin_goes_its_own_way(self):
+        numbers = Numbers(1, 5)
+        numbers.take()
+        twin = numbers.twin()
+        self.assert_stands(twin, 1, 5, [1])
+        self.assertEqual([twin.take(), twin.take()], [2, 3])
+        numbers.give(1)
+        self.assert_stands(numbers, 1, 5, [])
+        self.assert_stands(twin, 1, 5, [1, 2, 3])
+
     def test_a_long_course(self):
         rng = random.Random(7)
         numbers, taken = Numbers(100, 111), set()
