@@ -39,7 +39,8 @@ def lay_slip(web, home, number, path, out):
 def take_lay(web, home, number, path, out):
     """What a house does at a letter `lay`; `out` is the sending house and the told number."""
     if path[0] == home.name:
-        web.bores[number].lead = out
+        bore = web.bores[number]
+        bore.lead = out
     elif ahead_of(path, home.name) in joined(web, home.name):
         home.queue.append((number, path, out))
         lay_waiting(web, home)
