@@ -1,5 +1,7 @@
 """Frames: how one is led from house to house by its numbers, and where it ends."""
 
+from swapslip.tunnels import least_ready
+
 
 def send(web, house, goal):
     """The pair (end, steps) of a frame from a house to a goal."""
@@ -45,13 +47,8 @@ def cross(web, house, numbers, out):
     below = numbers[:-1] + (number,)
     if is_whole(web, house, other):
         return None, (other, below)
-    lead = tunnel_lead(web, house, other)
-    if len(numbers) > 1 or lead is None or not is_whole(web, house, lead[0]):
+    found = least_ready(web, house, other)
+    if len(numbers) > 1 or found is None or not is_whole(web, house, found[1][0]):
         return ("broken", house, other), None
-    return None, (lead[0], below + (lead[1],))
-
-
-def tunnel_lead(web, house, other):
-    """Where the least ready tunnel between two houses leads, None where there is none."""
-    leads = [lead for number, path, lead in web.ready() if (path[0], path[-1]) == (house, other)]
-    return leads[0] if leads else None
+    near, upper = found[1]
+    return None, (near, below + (upper,))

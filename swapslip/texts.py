@@ -1,4 +1,4 @@
-"""Numbers and ways as they are written in letters, pages and lines."""
+"""Numbers and ways as they are written in letters, pages and lines, and words with such things."""
 
 MOST_FIGURES = 6
 
@@ -18,8 +18,30 @@ def read_way(word):
     return None if None in houses else tuple(houses)
 
 
+def read_thing(form, part):
+    return read_way(part) if form == "way" else read_number(part)
+
+
+def read_line(forms, line):
+    """The tuple of a word and its things that a line writes, None where it writes none.
+
+    `forms` tells for each word what its things are: numbers or ways.
+    """
+    word, *parts = line.split(" ")
+    if word not in forms or len(parts) != len(forms[word]):
+        return None
+    things = [read_thing(form, part) for form, part in zip(forms[word], parts)]
+    return None if None in things else (word, *things)
+
+
 def thing_text(thing):
     """A number, or a way with points between."""
     if isinstance(thing, int):
         return str(thing)
     return ".".join([str(house) for house in thing])
+
+
+def line_text(parts):
+    """A word and its things, a blank between."""
+    word, *things = parts
+    return " ".join([word] + [thing_text(thing) for thing in things])

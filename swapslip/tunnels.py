@@ -65,3 +65,11 @@ def drop_tunnels(web, home, is_gone):
 def drop_towards(home, ahead):
     """What waits here to be sent on to a house that is joined no more waits no more."""
     home.queue = [(number, path, out) for number, path, out in home.queue if ahead_of(path, home.name) != ahead]
+
+
+def least_ready(web, house, other):
+    """The least-numbered tunnel that is ready from a house to another, as (number, lead), or None."""
+    for number, path, lead in web.ready():
+        if (path[0], path[-1]) == (house, other):
+            return number, lead
+    return None

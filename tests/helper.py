@@ -3,9 +3,11 @@
 Nothing here imports the program, so that no fault of it can hide here.
 """
 
+import copy
 import functools
 import itertools
 import random
+import re
 import unittest
 
 # Houses that no web has: below nought and far beyond.
@@ -643,3 +645,267 @@ def way_with_tunnels(way, ties, ready):
             houses += [path for number, path, out in ready if (path[0], path[-1]) == (one, other)][0][1:-1]
         houses.append(other)
     return houses
+
+
+FAULTS = "twice range way end gone other rest age".split()
+
+
+def row_words(ranges, rows, at):
+    """[25]: all words for what is wrong with a row, as a set, each looked for without regard to the others."""
+    house, number, what, out, way, age, mood = rows[at]
+    words = set()
+    if any(row[:2] == (house, number) for row in rows[:at]):
+        words.add("twice")
+    if house not in range(len(ranges)) or number not in range(ranges[house][0], ranges[house][1] + 1):
+        words.add("range")
+    if list(way[:1]) != [house] or (what[0] == "goal" and list(way[-1:]) != [what[1]]):
+        words.add("way")
+    if mood == "dead":
+        return words
+    if (out is None and len(way) > 1) or (out is not None and len(way) == 1):
+        words.add("end")
+    there = [row for row in rows if row[:2] == out]
+    if out is not None and not there:
+        words.add("gone")
+    for further in there[:1]:
+        words |= {"other"} if further[2] != what else set()
+        words |= {"rest"} if list(further[4]) != list(way[1:]) else set()
+        words |= {"age"} if further[5] >= age else set()
+    return words
+
+
+def fault_by_the_words(ranges, rows):
+    for at, row in enumerate(rows):
+        words = row_words(ranges, rows, at)
+        if words:
+            return min(words, key=FAULTS.index), row[0], row[1]
+    return None
+
+
+def cover_by_the_words(slow):
+    """[26]"""
+    told = []
+    for house in slow.houses:
+        for other in slow.near(house):
+            numbers = [number for number, way, out in slow.ready() if (way[0], way[-1]) == (house, other)]
+            ties = [tie for tie in slow.whole() if set(tie[:2]) != {house, other}]
+            found = way_by_the_words(len(slow.houses), ties, house, other)
+            way, lot = (None, found) if isinstance(found, list) else (found[1], None)
+            told.append((house, other, min(numbers, default=None), way, lot))
+    return told
+
+
+# [27]: how many things each deed has beside its word, and of what kind.
+DEED_FORMS = {
+    "build": "NNN", "cut": "NN", "snap": "NN", "mend": "NN", "charge": "NNN", "heed": "N", "deliver": "NN", "settle": "",
+    "tunnel": "W", "fell": "N", "guard": "NN",
+}
+
+# [31]: what can be said at a desk beside deeds.
+ASK_FORMS = {"undo": "", "redo": "", "send": "NN", "slips": "N", "way": "NN", "letters": "NN"}
+
+NUMBER = "(0|[1-9][0-9]{0,5})"
+
+
+def read_by_the_words(forms, line):
+    """The tuple of a word and its things that a line writes by one of the forms, or None."""
+    for word in forms:
+        things = {"N": NUMBER, "W": f"{NUMBER}([.]{NUMBER})*"}
+        if re.fullmatch(" ".join([word] + [things[form] for form in forms[word]]), line, re.ASCII):
+            parts = zip(forms[word], line.split(" ")[1:])
+            return (word,) + tuple(int(part) if form == "N" else tuple(map(int, part.split("."))) for form, part in parts)
+    return None
+
+
+def texts_of(*things):
+    """Words, numbers and ways with a blank between."""
+    return " ".join(".".join(map(str, thing)) if isinstance(thing, (tuple, list)) else str(thing) for thing in things)
+
+
+def own_form(deed):
+    """A deed with its ways as tuples."""
+    return tuple(tuple(thing) if isinstance(thing, list) else thing for thing in deed)
+
+
+class SlowPost:
+    """[27], [28] and [31] word by word: each step is its deeds and a copy of the whole slow web behind it."""
+
+    def __init__(self, ranges):
+        self.ranges = ranges
+        self.steps = [([], SlowWeb(ranges))]
+        self.undone = []
+
+    def web(self):
+        return self.steps[-1][1]
+
+    def deeds(self):
+        return [deed for deeds, web in self.steps for deed in deeds]
+
+    def depth(self):
+        return len(self.steps) - 1, len(self.undone)
+
+    def do(self, deed):
+        """As `done` tells."""
+        if deed[0] not in DEED_FORMS or len(deed) - 1 != len(DEED_FORMS[deed[0]]):
+            return "refused", "baddeed", {"said": deed[0]}
+        web = copy.deepcopy(self.web())
+        came_to = web.do(deed)
+        if came_to[0] == "told":
+            self.steps.append(([own_form(deed)], web))
+            self.undone = []
+        return came_to
+
+    def run(self, deeds):
+        probe = SlowPost(self.ranges)
+        probe.steps = list(self.steps)
+        came_to = []
+        for at, deed in enumerate(deeds):
+            came_to.append(probe.do(deed))
+            if came_to[-1][0] == "refused":
+                return "refused", "stopped", {"at": at, "kind": came_to[-1][1]}
+        if deeds:
+            self.steps.append(([own_form(deed) for deed in deeds], probe.web()))
+            self.undone = []
+        return "told", [each[1] for each in came_to]
+
+    def undo(self):
+        if len(self.steps) == 1:
+            return "refused", "nothing", {}
+        self.undone.append(self.steps.pop())
+        return "told", None
+
+    def redo(self):
+        if not self.undone:
+            return "refused", "nothing", {}
+        self.steps.append(self.undone.pop())
+        return "told", None
+
+    def page(self):
+        first = ["post"] + [f"{low}-{high}" for low, high in self.ranges]
+        return "".join(line + "\n" for line in [" ".join(first)] + [texts_of(*deed) for deed in self.deeds()])
+
+    def say(self, line):
+        deed = read_by_the_words(DEED_FORMS, line)
+        asked = read_by_the_words(ASK_FORMS, line)
+        if deed is None and asked is None:
+            return "what"
+        came_to = self.do(deed) if deed is not None else self.ask(*asked)
+        if came_to[0] == "refused":
+            return "no " + came_to[1]
+        told = came_to[1]
+        return "done" if told is None else texts_of(*told) if isinstance(told, tuple) else str(told)
+
+    def ask(self, word, *things):
+        if word in ("undo", "redo"):
+            return getattr(self, word)()
+        web = self.web()
+        try:
+            web.look_houses(*things)
+            if word == "letters":
+                web.look_tie(*things)
+        except Refused as refused:
+            return ("refused",) + refused.told
+        if word == "send":
+            end, steps = web.send(*things)
+            return "told", end + ([house for house, numbers in steps],)
+        if word == "letters":
+            return "told", len(web.row(*things))
+        if word == "way":
+            live = web.live_ones(things[0], ("goal", things[1]))
+            return "told", (live[0]["way"],) if live else "none"
+        return "told", tuple(f"{row[1]}.{row[2][0]}{row[2][1]}.{row[6]}" for row in web.slip_rows(*things))
+
+
+def good_range(low, high):
+    """[7]"""
+    return low >= 1 and high >= low and high - low < 64 and high < 10000
+
+
+def read_page_by_the_words(text):
+    """[30]: the place of the first wrong line, or a slow post."""
+    lines = re.findall("[^\n]*\n|[^\n]+", text)
+    slow = None
+    for at, line in enumerate(lines or [""]):
+        if line[-1:] != "\n":
+            return at
+        if at:
+            deed = read_by_the_words(DEED_FORMS, line[:-1])
+            if deed is None or slow.do(deed)[0] == "refused":
+                return at
+        elif re.fullmatch(f"post( {NUMBER}-{NUMBER})+\n", line):
+            ranges = [tuple(map(int, word.split("-"))) for word in line.split()[1:]]
+            if len(ranges) > 8 or not all(good_range(low, high) for low, high in ranges):
+                return at
+            slow = SlowPost(ranges)
+        else:
+            return at
+    return slow
+
+
+class Seen:
+    """What `likely_deeds` and `strange_deed` draw from, of a web of the program."""
+
+    def __init__(self, web, laid):
+        self.houses = range(web.many())
+        self.tie = {tie[:2]: tie[2:] for tie in web.ties()}
+        self.bore = [None] * laid
+        self.waiting = web.waiting
+
+    def near(self, house):
+        return [other for other in self.houses if tuple(sorted((house, other))) in self.tie]
+
+
+def spoil(told):
+    """Change each list that is told, and each list in it."""
+    if isinstance(told, (list, tuple)):
+        for thing in told:
+            spoil(thing)
+    if isinstance(told, list):
+        told.reverse()
+        told.append("spoilt")
+        told[0] = "spoilt"
+
+
+def asked_twice(ask):
+    """What a question tells the second time, where all that it told the first time was spoilt."""
+    first = ask()
+    kept = copy.deepcopy(first)
+    spoil(first)
+    return kept, ask()
+
+
+def lost_goals(web):
+    """[23]: whether it speaks of this web as it stands, and if so, all that is not as it says."""
+    whole = [tie[:3] for tie in web.ties() if tie[3]]
+    houses = range(web.many())
+    if web.short() or web.waiting() or any(web.view(house) != whole for house in houses):
+        return None
+    faults = []
+    for house in houses:
+        for goal in houses:
+            found = way_by_the_words(web.many(), whole, house, goal)
+            way = None if isinstance(found, list) else found[1]
+            if web.way(house, goal) != way or (web.live(house, goal) is None) != (way is None):
+                faults.append((house, goal))
+    return faults
+
+
+def called(ask, *things):
+    """What a call comes to, as `done` tells it."""
+    try:
+        return "told", ask(*things)
+    except ValueError as refused:
+        fields = dict(vars(refused))
+        return "refused", fields.pop("word"), fields
+
+
+def post_told(post):
+    """All that a post tells of itself and of its web, both steps back and again counted."""
+    return post.deeds(), post.depth(), len(post), told(post.web())
+
+
+def replayed(web, deeds):
+    """The web behind deeds that are done to it by its own methods."""
+    for deed in deeds:
+        done(web, deed)
+    return web

@@ -27,6 +27,8 @@ BARRED = re.compile(
 
 TAKE_LISTS = ["any", "all", "min", "max", "sum", "sorted"]
 
+TAKE_AT_ONCE = TAKE_LISTS + ["list", "tuple", "dict", "enumerate", "zip", "join"]
+
 
 def sources():
     told = {}
@@ -134,6 +136,80 @@ def call_faults(node, methods):
             yield "L7"
 
 
+def parents(tree):
+    return {id(child): node for node in ast.walk(tree) for child in ast.iter_child_nodes(node)}
+
+
+def called_name(node):
+    """The name of the function or method that is called, None for all other nodes."""
+    if not isinstance(node, ast.Call):
+        return None
+    return node.func.id if isinstance(node.func, ast.Name) else getattr(node.func, "attr", None)
+
+
+def at_once_faults(tree):
+    """L23: what is iterated on the spot stands where that is done."""
+    above = parents(tree)
+    for node in ast.walk(tree):
+        if called_name(node) in ("zip", "enumerate", "reversed", "range", "items", "keys", "values"):
+            parent = above[id(node)]
+            loops = isinstance(parent, (ast.For, ast.comprehension)) and parent.iter is node
+            tested = isinstance(parent, ast.Compare) and called_name(node) in ("range", "keys")
+            if not loops and not tested and called_name(parent) not in TAKE_AT_ONCE:
+                yield "L23"
+
+
+def set_faults(tree):
+    """L24, as strict as this package needs it: a set stands in `len(..)`, in `sorted(..)` or behind `in`."""
+    above = parents(tree)
+    for node in ast.walk(tree):
+        if called_name(node) == "set" or isinstance(node, (ast.Set, ast.SetComp)):
+            if called_name(above[id(node)]) not in ("len", "sorted") and not isinstance(above[id(node)], ast.Compare):
+                yield "L24"
+
+
+def tables(trees):
+    """The names of all lists and dicts at module level."""
+    return {
+        target.id for tree in trees for node in tree.body
+        if isinstance(node, ast.Assign) and isinstance(node.value, (ast.List, ast.Dict)) for target in node.targets
+    }
+
+
+def table_faults(tree, names):
+    """L15: a list or dict at module level is read, or passed on as a copy."""
+    above = parents(tree)
+    for node in ast.walk(tree):
+        if isinstance(node, ast.Name) and node.id in names and isinstance(node.ctx, ast.Load):
+            parent = above[id(node)]
+            read = isinstance(parent, (ast.Compare, ast.For, ast.comprehension, ast.Attribute))
+            read = read or (isinstance(parent, ast.Subscript) and isinstance(parent.ctx, ast.Load))
+            if not read and called_name(parent) not in ("len", "list", "dict", "sorted", "tuple"):
+                yield "L15"
+
+
+def shadow_faults(tree):
+    """L15: what a function names is no class and no import of its file."""
+    taken = {node.name for node in tree.body if isinstance(node, ast.ClassDef)}
+    taken |= {alias.name for node in tree.body if isinstance(node, ast.ImportFrom) for alias in node.names}
+    for node in ast.walk(tree):
+        if isinstance(node, (ast.FunctionDef, ast.Lambda)):
+            if (bound_names(node) - {getattr(node, "name", None)}) & taken:
+                yield "L15"
+
+
+def ring_faults(trees):
+    """L16: no two files import from each other, directly or through others."""
+    needs = {
+        name: {node.module.split(".")[-1] for node in tree.body if isinstance(node, ast.ImportFrom)}
+        for name, tree in trees.items()
+    }
+    while any(not need for need in needs.values()):
+        free = [name for name in needs if not needs[name]]
+        needs = {name: needs[name] - set(free) for name in needs if name not in free}
+    return [(name, "L16") for name in needs]
+
+
 def own_methods(trees):
     return {
         item.name
@@ -186,9 +262,11 @@ def faults(files):
     methods = own | set(METHODS)
     told = [("package", rule) for rule in name_sort_faults(own, attributes)]
     told += [(name, "L18") for name, tree in trees.items() if read_attributes(tree) - attributes]
+    told += ring_faults(trees)
     for name, tree in trees.items():
         rules = list(text_faults(files[name])) + list(import_faults(tree, files))
-        rules += list(name_faults(tree)) + list(body_faults(tree.body))
+        rules += list(name_faults(tree)) + list(body_faults(tree.body)) + list(shadow_faults(tree))
+        rules += list(at_once_faults(tree)) + list(set_faults(tree)) + list(table_faults(tree, tables(trees.values())))
         for node in ast.walk(tree):
             rules += list(node_faults(node)) + list(call_faults(node, methods))
         told += [(name, rule) for rule in rules]
@@ -217,6 +295,14 @@ class TheLanguage(unittest.TestCase):
             "from swapslip.probe import gone\n": "L16",
             "print = 3\nx = hash\n": "L8",
             "def f(min):\n    return min\n": "L15",
+            "class A:\n    pass\n\n\ndef f(A):\n    return A\n": "L15",
+            "X = {1: 2}\n\n\ndef f():\n    return X\n": "L15",
+            "X = [1]\n\n\ndef f(g):\n    return g(X)\n": "L15",
+            "X = [1]\n\n\ndef f():\n    X[0] = 2\n    return 1\n": "L15",
+            "from swapslip.probe import f\n\n\ndef f():\n    return 1\n": "L16",
+            "def f(x):\n    return zip(x, x)\n": "L23",
+            "def f(x):\n    y = x.items()\n    return 1\n": "L23",
+            "def f(x):\n    return len(set(x)) + [y for y in set(x)]\n": "L24",
             "def f(_x):\n    return 1\n": "L12",
             "def f(x):\n    return x is 3\n": "L20",
             "def f(x):\n    return x / 2\n": "L7",
